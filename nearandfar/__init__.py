@@ -1,0 +1,1 @@
+"""Nearandfar: what a table of distances tells."""

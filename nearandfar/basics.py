@@ -1,0 +1,127 @@
+"""What several modules need: kinds of values, pairs and lots of letters, checks of arguments."""
+
+from itertools import combinations
+
+from nearandfar.errors import InvalidPair, InvalidParting, InvalidText, InvalidThings, UnknownThing
+from nearandfar.limits import LEAST_THINGS, MOST_THINGS
+
+LETTERS = "abcdefghijklmnopqrstuvwxyz"
+DIGITS = "0123456789"
+MOST_DIGITS = 7
+
+
+def is_integer_within(value, least, most):
+    """Tell whether any value is an integer from least to most; True and False are none."""
+    return isinstance(value, int) and not isinstance(value, bool) and least <= value <= most
+
+
+def is_lot(value, letters):
+    """Tell whether any value is an ascending string, perhaps empty, of some of these ascending letters."""
+    return isinstance(value, str) and value == "".join([letter for letter in letters if letter in value])
+
+
+def is_letter(value, letters):
+    """Tell whether any value is a single one of these ascending letters."""
+    return is_lot(value, letters) and len(value) == 1
+
+
+def is_pair(value, letters):
+    """Tell whether any value is an ascending string of two of these ascending letters."""
+    return is_lot(value, letters) and len(value) == 2
+
+
+def is_parting(value, things):
+    """Tell whether any value is a lot of things, not empty, in which the least one is not."""
+    return is_lot(value, things[1:]) and len(value) > 0
+
+
+def check_things(things):
+    """Raise InvalidThings for what are no things of a table."""
+    if not (is_lot(things, LETTERS) and LEAST_THINGS <= len(things) <= MOST_THINGS):
+        raise InvalidThings(things)
+
+
+def check_thing(things, thing):
+    """Raise UnknownThing for what is none of these things."""
+    if not is_letter(thing, things):
+        raise UnknownThing(thing)
+
+
+def check_pair(things, pair):
+    """Raise InvalidPair for what is no pair of these things."""
+    if not is_pair(pair, things):
+        raise InvalidPair(pair)
+
+
+def check_parting(things, parting):
+    """Raise InvalidParting for what is no parting of these things."""
+    if not is_parting(parting, things):
+        raise InvalidParting(parting)
+
+
+def lots_of(letters, least):
+    """List all lots of these ascending letters, from the number least on, in ascending order."""
+    return sorted(["".join(lot) for size in range(least, len(letters) + 1) for lot in combinations(letters, size)])
+
+
+def pairs_of(letters):
+    """List all pairs of these ascending letters in ascending order."""
+    return [first + second for first, second in combinations(letters, 2)]
+
+
+def is_parted(parting, pair):
+    """Tell whether just one of the two of a pair is in the lot."""
+    return (pair[0] in parting) != (pair[1] in parting)
+
+
+def other_lot(things, parting):
+    """Return the lot with the least thing in it."""
+    return "".join([thing for thing in things if thing not in parting])
+
+
+def both_ways(places, rows):
+    """Return a dict of the lengths of pairs (PAIR, LENGTH), for PAIR either way, and of 0 for each place."""
+    lengths = {place + place: 0 for place in places}
+    for pair, length in rows:
+        lengths[pair] = length
+        lengths[pair[::-1]] = length
+    return lengths
+
+
+def least_lengths(places, steps):
+    """Return a dict of the least lengths, made of steps, for each two places that steps join."""
+    least = {step: steps[step] for step in steps}
+    for middle in places:
+        for start in places:
+            for end in places:
+                ahead, behind, whole = start + middle, middle + end, start + end
+                if ahead in least and behind in least:
+                    length = least[ahead] + least[behind]
+                    least[whole] = min(length, least.get(whole, length))
+    return least
+
+
+def read_rows(text):
+    """Return the first line of a text, and the tuple of its rows as pairs (WORD, NUMBER)."""
+    if not isinstance(text, str):
+        raise InvalidText(text)
+    head, *lines = text.split("\n")
+    rows = []
+    for line in lines:
+        word, _, digits = line.partition(" ")
+        if not is_written_number(digits):
+            raise InvalidText(text)
+        rows.append((word, int(digits)))
+    return head, tuple(rows)
+
+
+def is_written_number(word):
+    """Tell whether a word is a number from 0 on as Python writes it, of few digits."""
+    # Signs, blanks, needless zeros and digits of other scripts are read by int, too, but a text has none.
+    plain = all([sign in DIGITS for sign in word]) and 1 <= len(word) <= MOST_DIGITS
+    return plain and (word == "0" or not word.startswith("0"))
+
+
+def written(head, rows):
+    """Return the text of which read_rows returns this head and these rows."""
+    return "\n".join([head, *[f"{word} {number}" for word, number in rows]])

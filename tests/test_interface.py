@@ -1,0 +1,65 @@
+"""The names, arguments and homes of all that the interface lists."""
+
+import importlib
+import inspect
+import unittest
+
+FUNCTIONS = {
+    "tables": ("times(table, factor)", "added(table, other_table)"),
+    "ways": (
+        "way_length(table, way)", "is_right(table)", "long_three(table)", "closed(table)", "least_way(table, thing, other)",
+        "count_ways(table, thing, other)", "between(table, thing, other)", "twins(table)", "spread(table)",
+    ),
+    "webs": ("shortest_roads(web, pair)", "users(web, tie)", "needless_ties(web)"),
+    "needed": ("needed_pairs(table)", "least_web(table)", "makes(web, table)"),
+    "lines": (
+        "is_straight(table, things)", "files(table)", "longest_files(table)", "is_line(table)", "posts(table)",
+        "crooked_four(table)", "bent_three(table)", "line_lots(table)",
+    ),
+    "partings": (
+        "partings(table)", "parts(table, parting, pair)", "cross(table, parting, other_parting)",
+        "clash(table, parting, other_parting, third_parting)", "room(table, thing, other, third, fourth)",
+        "strength(table, parting)", "clear(table)", "shape(table)",
+    ),
+}
+CLASSES = {
+    ("tables", "Table"): (
+        "__init__(self, things, distances)", "told(cls, text)", "__str__(self)", "__len__(self)", "far(self, thing, other)",
+        "changed(self, pair, distance)", "without(self, thing)", "grown(self, letter, row)", "renamed(self, letters)",
+    ),
+    ("webs", "Web"): (
+        "__init__(self, things, ties)", "told(cls, text)", "__str__(self)", "__len__(self)", "table(self)", "without(self, tie)",
+    ),
+}
+PROPERTIES = {("tables", "Table"): ("things", "distances"), ("webs", "Web"): ("things", "ties", "hidden")}
+
+
+def home(module):
+    return importlib.import_module(f"nearandfar.{module}")
+
+
+class TestInterface(unittest.TestCase):
+    def test_functions(self):
+        for module, rows in FUNCTIONS.items():
+            for row in rows:
+                function = getattr(home(module), row.split("(")[0])
+                self.assertEqual(row, function.__name__ + str(inspect.signature(function)))
+                self.assertEqual(f"nearandfar.{module}", function.__module__)
+
+    def test_classes(self):
+        for (module, name), rows in CLASSES.items():
+            kind = getattr(home(module), name)
+            self.assertEqual(f"nearandfar.{module}", kind.__module__)
+            for row in rows:
+                method = vars(kind)[row.split("(")[0]]
+                self.assertIs(row.startswith("told"), isinstance(method, classmethod))
+                method = getattr(method, "__func__", method)
+                self.assertEqual(row, method.__name__ + str(inspect.signature(method)))
+            for each in PROPERTIES[module, name]:
+                self.assertIsInstance(vars(kind)[each], property)
+
+    def test_errors(self):
+        errors = home("errors")
+        for name, kind in vars(errors).items():
+            if inspect.isclass(kind):
+                self.assertEqual("nearandfar.errors", kind.__module__)
