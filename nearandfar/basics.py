@@ -2,12 +2,13 @@
 
 from itertools import combinations
 
-from nearandfar.errors import InvalidPair, InvalidParting, InvalidText, InvalidThings, UnknownThing
+from nearandfar.errors import InvalidPair, InvalidParting, InvalidParts, InvalidText, InvalidThings, UnknownThing
 from nearandfar.limits import LEAST_THINGS, MOST_THINGS
 
 LETTERS = "abcdefghijklmnopqrstuvwxyz"
 DIGITS = "0123456789"
 MOST_DIGITS = 7
+MOST_DOUBLED = 2000000
 
 
 def is_integer_within(value, least, most):
@@ -74,9 +75,53 @@ def is_parted(parting, pair):
     return (pair[0] in parting) != (pair[1] in parting)
 
 
-def other_lot(things, parting):
-    """Return the lot with the least thing in it."""
-    return "".join([thing for thing in things if thing not in parting])
+def other_lot(things, lot):
+    """Return the ascending string of the things that are not in a lot."""
+    return "".join([thing for thing in things if thing not in lot])
+
+
+def twos_of(lot):
+    """List all two things of a lot, in whichever order once, and each thing beside itself."""
+    return [(lot[at], other) for at in range(len(lot)) for other in lot[at:]]
+
+
+def do_cross(things, parting, other_parting):
+    """Tell whether each lot of the one parting has a thing in common with each lot of the other one."""
+    lots = (parting, other_lot(things, parting))
+    other_lots = (other_parting, other_lot(things, other_parting))
+    return all([any([thing in others for thing in lot]) for lot in lots for others in other_lots])
+
+
+def is_part(value, lots, most):
+    """Tell whether any value is a pair of one of these lots and an integer from 1 to most."""
+    if not isinstance(value, tuple) or len(value) != 2:
+        return False
+    return isinstance(value[0], str) and value[0] in lots and is_integer_within(value[1], 1, most)
+
+
+def check_parts(things, parts, lots, most, fits):
+    """Raise InvalidParts for what is no tuple of pairs of ascending ones of these lots and integers from 1 to most.
+
+    fits tells, of the things, a list of lots and a further lot, whether this may stand behind them.
+    """
+    if not isinstance(parts, tuple):
+        raise InvalidParts(None)
+    ahead = []
+    for index, part in enumerate(parts):
+        if not is_part(part, lots, most) or part[0] <= max(ahead, default="") or not fits(things, ahead, part[0]):
+            raise InvalidParts(index)
+        ahead.append(part[0])
+
+
+def fits_always(things, ahead, lot):
+    """Tell check_parts that a lot may stand behind any that are less."""
+    return True
+
+
+def parted_sums(things, parts):
+    """Return a dict, by pairs, of the sums of the numbers of those of pairs (PARTING, NUMBER) that part the pair."""
+    pairs = pairs_of(things)
+    return {pair: sum([number for parting, number in parts if is_parted(parting, pair)]) for pair in pairs}
 
 
 def both_ways(places, rows):

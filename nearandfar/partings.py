@@ -2,7 +2,7 @@
 
 from itertools import combinations
 
-from nearandfar.basics import check_pair, check_parting, check_thing, is_parted, lots_of, other_lot
+from nearandfar.basics import check_pair, check_parting, check_thing, do_cross, is_parted, lots_of, other_lot, twos_of
 from nearandfar.tables import check_table
 
 
@@ -25,9 +25,7 @@ def cross(table, parting, other_parting):
     check_table(table)
     check_parting(table.things, parting)
     check_parting(table.things, other_parting)
-    lots = (parting, other_lot(table.things, parting))
-    other_lots = (other_parting, other_lot(table.things, other_parting))
-    return all([any([thing in others for thing in lot]) for lot in lots for others in other_lots])
+    return do_cross(table.things, parting, other_parting)
 
 
 def clash(table, parting, other_parting, third_parting):
@@ -36,8 +34,11 @@ def clash(table, parting, other_parting, third_parting):
     check_parting(table.things, parting)
     check_parting(table.things, other_parting)
     check_parting(table.things, third_parting)
-    things = table.things
-    three = (parting, other_parting, third_parting)
+    return do_clash(table.things, (parting, other_parting, third_parting))
+
+
+def do_clash(things, three):
+    """Tell whether three partings of these things part some four of them two from two in the three unlike manners."""
     return any([partners(three, four) == list(four[1:]) for four in combinations(things, 4)])
 
 
@@ -76,11 +77,6 @@ def strength(table, parting):
     check_parting(table.things, parting)
     twos = twos_of(other_lot(table.things, parting))
     return min([room_of(table, two, others) for two in twos for others in twos_of(parting)])
-
-
-def twos_of(lot):
-    """List all two things of a lot, in whichever order once, and each thing beside itself."""
-    return [(lot[at], other) for at in range(len(lot)) for other in lot[at:]]
 
 
 def clear(table):

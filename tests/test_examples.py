@@ -2,8 +2,6 @@
 
 import unittest
 
-# PIECES stands for what the document shows for the ties of the tree of fork, in an example of partings.
-PIECES = (("b", 4), ("bcde", 2), ("c", 4), ("cde", 2), ("d", 2), ("de", 4), ("e", 6))
 EXAMPLES = {
     "tables": r"""
 >>> from nearandfar.tables import Table, added, times
@@ -50,10 +48,47 @@ raises InvalidDistances(index=1)
 >>> [crooked_four(square), crooked_four(lane), bent_three(square), bent_three(loose), bent_three(fork), files(lane), files(square), longest_files(Table("abc", (("ab", 2), ("ac", 4), ("bc", 2)))), line_lots(square), line_lots(loose)]
 ['abcd', None, None, 'abc', 'abc', ('abcd',), ('abc', 'adc', 'bad', 'bcd'), ('abc',), ('abc', 'abd', 'acd', 'bcd'), ('ab', 'ac', 'bc')]
 """,
+    "trees": r"""
+>>> from nearandfar.trees import firm, firmness, from_pieces, is_tree, meeting, odd_four, own, path, pieces, places, tree_length
+>>> [pieces(fork), tree_length(fork), meeting(fork, "a", "c", "e"), path(fork, "a", "e"), path(lane, "a", "d"), pieces(lane), is_tree(clock), is_tree(square)]
+[(('b', 4), ('bcde', 2), ('c', 4), ('cde', 2), ('d', 2), ('de', 4), ('e', 6)), 24, (4, 4, 10), ('a', '', '', '', 'e'), ('a', 'b', 'c', 'd'), (('bcd', 2), ('cd', 4), ('d', 6)), True, False]
+>>> [firm(square), odd_four(square), odd_four(fork), firmness(lane, "cd"), own(lane) == times(lane, 2), str(own(square.without("d"))), places(lane), from_pieces("abcd", (("bcd", 2), ("cd", 4), ("d", 6))) == lane]
+[(), 'abcd', None, 4, True, 'abc\nab 2\nac 4\nbc 2', (('a', ('bcd',)), ('b', ('a', 'cd')), ('c', ('ab', 'd')), ('d', ('abc',))), True]
+>>> pieces(knot)
+raises NoTree()
+""",
     "partings": r"""
 >>> from nearandfar.partings import clash, clear, cross, partings, parts, room, shape, strength
->>> [clear(square), shape(knot), clear(fork) == PIECES, partings(loose), strength(square, "bd"), room(square, "a", "b", "c", "d"), room(knot, "a", "a", "b", "c"), cross(square, "bc", "cd"), cross(square, "b", "bc"), clash(square, "bc", "bd", "cd"), parts(square, "bc", "ad")]
+>>> [clear(square), shape(knot), clear(fork) == pieces(fork), partings(loose), strength(square, "bd"), room(square, "a", "b", "c", "d"), room(knot, "a", "a", "b", "c"), cross(square, "bc", "cd"), cross(square, "b", "bc"), clash(square, "bc", "bd", "cd"), parts(square, "bc", "ad")]
 [(('bc', 2), ('cd', 2)), (), True, ('b', 'bc', 'c'), 0, 2, 2, True, False, True, False]
+""",
+    "rests": r"""
+>>> from nearandfar.rests import bare, is_sum, made, rest, rests, share, taken
+>>> [is_sum(square), is_sum(knot), rest(knot, "ab"), share(square, "ac"), taken(square, "cd", 1).distances[:3], made("abcd", (("bc", 2), ("cd", 2))) == square, bare(knot) == times(knot, 2), rests(loose)[0], is_sum(twin)]
+[True, False, 4, 4, (('ab', 1), ('ac', 1), ('ad', 0)), True, True, ('ab', 8), True]
+>>> taken(square, "bd", 1)
+raises InvalidNumber(given=1)
+""",
+    "rounds": r"""
+>>> from nearandfar.rounds import all_orders, bad_four, round_orders, run_numbers, table_of_runs
+>>> [all_orders(lane), round_orders(lane), round_orders(square), bad_four(square, "abdc"), round_orders(knot)]
+[('abcd', 'abdc', 'acbd'), ('abcd', 'abdc'), ('abcd',), 'abdc', ()]
+>>> [run_numbers(lane, "abcd"), run_numbers(square, "abcd"), table_of_runs("abcd", "abcd", (("bc", 2), ("cd", 2))) == square]
+[(('bcd', 2), ('cd', 4), ('d', 6)), (('bc', 2), ('cd', 2)), True]
+""",
+    "trips": r"""
+>>> from nearandfar.trips import crossings, shortest_length, shortest_trips, trip_length
+>>> [trip_length(lane, "abcd"), trip_length(lane, "acbd"), shortest_trips(lane), shortest_length(square), shortest_length(knot), crossings("abcd", "bd"), crossings("abcd", "bc")]
+[12, 16, ('abcd', 'abdc'), 4, 6, 4, 2]
+""",
+    "clocks": r"""
+>>> from nearandfar.clocks import bad_three, clock_pieces, clocked, clusters, groups, is_clock, level, levels
+>>> [level(lane, "ad"), clocked(lane).distances, is_clock(clock), is_clock(lane), bad_three(lane), level(loose, "ab")]
+[3, (('ab', 1), ('ac', 2), ('ad', 3), ('bc', 2), ('bd', 3), ('cd', 3)), True, False, 'abc', 3]
+>>> [levels(clock), groups(clock, 2), groups(clock, 4), clusters(clock)]
+[(2, 4, 6), ('ab', 'c', 'd'), ('ab', 'cd'), (('ab', 2), ('abcd', 6), ('cd', 4))]
+>>> clock_pieces(clock)
+(('b', 2), ('bcd', 2), ('c', 4), ('cd', 6), ('d', 4))
 """,
 }
 
@@ -90,7 +125,7 @@ def rows_of(text):
 
 class TestExamples(unittest.TestCase):
     def test_examples_in_their_order(self):
-        names, shown = {"PIECES": PIECES}, 0
+        names, shown = {}, 0
         for module, text in EXAMPLES.items():
             for row, expected in rows_of(text):
                 with self.subTest(module=module, row=row):
@@ -99,4 +134,4 @@ class TestExamples(unittest.TestCase):
         self.assertEqual(SHOWN, shown)
 
 
-SHOWN = 12
+SHOWN = 23

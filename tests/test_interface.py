@@ -16,10 +16,30 @@ FUNCTIONS = {
         "is_straight(table, things)", "files(table)", "longest_files(table)", "is_line(table)", "posts(table)",
         "crooked_four(table)", "bent_three(table)", "line_lots(table)",
     ),
+    "trees": (
+        "firmness(table, parting)", "firm(table)", "odd_four(table)", "is_tree(table)", "own(table)", "pieces(table)",
+        "tree_length(table)", "places(table)", "path(table, thing, other)", "meeting(table, thing, other, third)",
+        "from_pieces(things, parts)",
+    ),
     "partings": (
         "partings(table)", "parts(table, parting, pair)", "cross(table, parting, other_parting)",
         "clash(table, parting, other_parting, third_parting)", "room(table, thing, other, third, fourth)",
         "strength(table, parting)", "clear(table)", "shape(table)",
+    ),
+    "rests": (
+        "share(table, pair)", "rest(table, pair)", "rests(table)", "is_sum(table)", "bare(table)",
+        "taken(table, parting, by)", "made(things, parts)",
+    ),
+    "rounds": (
+        "all_orders(table)", "bad_four(table, order)", "round_orders(table)", "run_numbers(table, order)",
+        "table_of_runs(things, order, numbers)",
+    ),
+    "trips": (
+        "trip_length(table, order)", "shortest_length(table)", "shortest_trips(table)", "crossings(order, parting)",
+    ),
+    "clocks": (
+        "level(table, pair)", "clocked(table)", "is_clock(table)", "bad_three(table)", "levels(table)",
+        "groups(table, number)", "clusters(table)", "clock_pieces(table)",
     ),
 }
 CLASSES = {

@@ -7,6 +7,10 @@ import warnings
 from tests.language import PACKAGE, faults
 
 FOLDER = pathlib.Path(__file__).resolve().parent.parent / PACKAGE
+# The modules of the interface, in the order of the document: each needs just those ahead of it, and basics.
+LISTED = [
+    "limits", "errors", "tables", "ways", "webs", "needed", "lines", "trees", "partings", "rests", "rounds", "trips", "clocks",
+]
 # Rows of which each one is against a rule, as a whole file.
 BAD = """import os
 from os import path
@@ -59,8 +63,7 @@ class TestLanguage(unittest.TestCase):
     def test_the_folder(self):
         names = sorted(path.name for path in FOLDER.iterdir() if path.name != "__pycache__")
         self.assertTrue(all(name.endswith(".py") for name in names), names)
-        for name in ("__init__.py", "limits.py", "errors.py", "tables.py", "ways.py", "webs.py", "needed.py", "lines.py", "partings.py"):
-            self.assertIn(name, names)
+        self.assertEqual(sorted([f"{name}.py" for name in LISTED] + ["__init__.py", "basics.py"]), names)
 
     def test_each_file(self):
         for path in sorted(FOLDER.iterdir()):
@@ -91,9 +94,7 @@ class TestLanguage(unittest.TestCase):
         for path in FOLDER.glob("*.py"):
             rows = [row.split()[1] for row in path.read_text().split("\n") if row.startswith("from nearandfar.")]
             needs[path.stem] = [row.split(".")[1] for row in rows]
-        # The modules of the interface need just those that the document lists ahead of them.
-        listed = ["limits", "errors", "tables", "ways", "webs", "needed", "lines", "partings"]
-        for at, name in enumerate(listed):
-            self.assertLessEqual(set(needs[name]) & set(listed), set(listed[:at]), name)
-        for name in set(needs) - set(listed):
+        for at, name in enumerate(LISTED):
+            self.assertLessEqual(set(needs[name]) & set(LISTED), set(LISTED[:at]), name)
+        for name in set(needs) - set(LISTED):
             self.assertLessEqual(set(needs[name]), {"limits", "errors"}, name)
