@@ -1,6 +1,7 @@
 """What several modules need: kinds of values, pairs and lots of letters, checks of arguments."""
 
 from itertools import combinations
+from math import gcd
 
 from nearandfar.errors import InvalidPair, InvalidParting, InvalidParts, InvalidText, InvalidThings, UnknownThing
 from nearandfar.limits import LEAST_THINGS, MOST_THINGS
@@ -11,9 +12,35 @@ MOST_DIGITS = 7
 MOST_DOUBLED = 2000000
 
 
+def is_integer(value):
+    """Tell whether any value is an integer; True and False are none."""
+    return isinstance(value, int) and not isinstance(value, bool)
+
+
 def is_integer_within(value, least, most):
-    """Tell whether any value is an integer from least to most; True and False are none."""
-    return isinstance(value, int) and not isinstance(value, bool) and least <= value <= most
+    """Tell whether any value is an integer from least to most."""
+    return is_integer(value) and least <= value <= most
+
+
+def is_fraction(value):
+    """Tell whether any value is a fraction."""
+    if not isinstance(value, tuple) or len(value) != 2 or not is_integer(value[0]) or not is_integer(value[1]):
+        return False
+    return value[1] > 0 and gcd(value[0], value[1]) == 1
+
+
+def lowest(top, bottom):
+    """Return the fraction of two integers, the second one above 0."""
+    divisor = gcd(top, bottom)
+    return top // divisor, bottom // divisor
+
+
+def sum_of(fractions):
+    """Return the sum of fractions as a fraction."""
+    total = (0, 1)
+    for top, bottom in fractions:
+        total = lowest(total[0] * bottom + top * total[1], total[1] * bottom)
+    return total
 
 
 def is_lot(value, letters):
@@ -170,3 +197,84 @@ def is_written_number(word):
 def written(head, rows):
     """Return the text of which read_rows returns this head and these rows."""
     return "\n".join([head, *[f"{word} {number}" for word, number in rows]])
+
+
+def feasible_frame(columns, sides):
+    """Return a frame for numbers from 0 on, one for each column, by which the columns add up to the sides.
+
+    There must be such numbers, and no side is below 0. A frame is a triple (ROWS, BASE, SCALE): the equations,
+    solved for the columns whose indexes stand in BASE and multiplied by SCALE. Behind the columns stand helping
+    ones, one for each equation, and the sides.
+    """
+    many, size = len(columns), len(sides)
+    rows = []
+    for at, side in enumerate(sides):
+        rows.append([column[at] for column in columns] + [1 if at == other else 0 for other in range(size)] + [side])
+    frame = (rows, list(range(many, many + size)), 1)
+    return expelled(best_frame(frame, [0] * many + [1] * size, many), many)
+
+
+def best_frame(frame, costs, many):
+    """Return a frame for the numbers that cost the least, without other columns than the first many and those in it."""
+    column = gainful(frame, costs, many)
+    while column is not None:
+        frame = pivoted(frame, narrowest(frame, column), column)
+        column = gainful(frame, costs, many)
+    return frame
+
+
+def gainful(frame, costs, many):
+    """Return the first column that makes the numbers cheaper, or None. (The first one: so no frame comes again.)"""
+    rows, base, scale = frame
+    dear = [(costs[index], row) for index, row in zip(base, rows) if costs[index] != 0]
+    for column in range(many):
+        if costs[column] * scale < sum([cost * row[column] for cost, row in dear]):
+            return column
+    return None
+
+
+def narrowest(frame, column):
+    """Return the index of the row that keeps the number of a column the least; of several that with the least base."""
+    rows, base, _ = frame
+    narrow = [(row[-1], row[column], base[at], at) for at, row in enumerate(rows) if row[column] > 0]
+    best = narrow[0]
+    for one in narrow:
+        if is_narrower(one, best):
+            best = one
+    return best[3]
+
+
+def is_narrower(one, other):
+    """Tell whether of two tuples (TOP, BOTTOM, INDEX ..) the first one has the lesser fraction, or the lesser index."""
+    here, there = one[0] * other[1], other[0] * one[1]
+    return here < there or (here == there and one[2] < other[2])
+
+
+def pivoted(frame, at, column):
+    """Return the frame with a column in the place of that for which a row is solved."""
+    rows, base, scale = frame
+    chosen = rows[at] if rows[at][column] > 0 else [-number for number in rows[at]]
+    pivot = chosen[column]
+    changed = []
+    for row in rows:
+        # All numbers of a frame are determinants out of its equations: the division leaves nothing.
+        changed.append([(pivot * number - row[column] * above) // scale for number, above in zip(row, chosen)])
+    return changed[:at] + [chosen] + changed[at + 1:], base[:at] + [column] + base[at + 1:], pivot
+
+
+def expelled(frame, many):
+    """Return the frame without other columns than the first many; those that are in it have the number 0."""
+    for at in range(len(frame[0])):
+        if frame[1][at] >= many:
+            row = frame[0][at]
+            frame = pivoted(frame, at, [column for column in range(many) if row[column] != 0][0])
+    return frame
+
+
+def number_in(frame, column):
+    """Return the number that a column has, as a fraction."""
+    rows, base, scale = frame
+    for index, row in zip(base, rows):
+        if index == column:
+            return lowest(row[-1], scale)
+    return 0, 1

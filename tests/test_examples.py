@@ -90,6 +90,37 @@ raises InvalidNumber(given=1)
 >>> clock_pieces(clock)
 (('b', 2), ('bcd', 2), ('c', 4), ('cd', 6), ('d', 4))
 """,
+    "spanning": r"""
+>>> from nearandfar.spanning import count_least_trees, greatest_kept, least_sum, least_trees, standing
+>>> [least_sum(lane), least_trees(lane), least_sum(square), count_least_trees(square), standing(square, "ab"), standing(lane, "ab"), standing(lane, "ad")]
+[6, (('ab', 'bc', 'cd'),), 3, 4, 'some', 'all', 'none']
+>>> [greatest_kept(lane, "ab"), greatest_kept(square, "ac"), count_least_trees(knot), least_sum(clock)]
+[3, 1, 12, 12]
+""",
+    "crowds": r"""
+>>> from nearandfar.crowds import bar, crowd, crowd_table, is_bar, is_crowd, least_raise, lone_crowd, sure_partings, weights
+>>> even = Table("abcd", (("ab", 2), ("ac", 2), ("ad", 2), ("bc", 2), ("bd", 2), ("cd", 2)))
+>>> [crowd(lane), crowd(square), crowd(knot), bar(square), is_bar(knot, (1, -1, -1, -1, -1, -1, -1, 1, 1, 1)), is_bar(loose, bar(loose)), lone_crowd(square), lone_crowd(even)]
+[(('bcd', (1, 1)), ('cd', (2, 1)), ('d', (3, 1))), (('bc', (1, 1)), ('cd', (1, 1))), None, None, True, True, True, False]
+>>> [weights(even, "bc"), weights(even, "b"), sure_partings(even), sure_partings(square), least_raise(knot), least_raise(even), least_raise(loose), is_crowd(even, (("b", (1, 1)), ("bcd", (1, 1)), ("c", (1, 1)), ("d", (1, 1)))), crowd_table("abc", (("b", 1), ("bc", 2))).distances]
+[((0, 1), (1, 1)), ((0, 1), (1, 1)), (), ('bc', 'cd'), (1, 1), (0, 1), (4, 1), True, (('ab', 3), ('ac', 2), ('bc', 1))]
+""",
+    "piles": r"""
+>>> from nearandfar.piles import after, are_heights, gain, is_pile, is_plan, plan_cost
+>>> [is_pile(lane, (2, 0, 0, 1)), is_pile(lane, (2, 0, 0)), is_plan(lane, (2, 0, 0, 1), (0, 1, 1, 1), (("a", "b", 1), ("a", "c", 1))), plan_cost(lane, (("a", "b", 1), ("a", "c", 1))), after(lane, (2, 0, 0, 1), (("a", "b", 1), ("a", "c", 1)))]
+[True, False, True, 4, (0, 1, 1, 1)]
+>>> [are_heights(lane, (6, 5, 3, 0)), are_heights(lane, (7, 5, 3, 0)), gain(lane, (6, 5, 3, 0), (2, 0, 0, 1), (0, 1, 1, 1)), plan_cost(loose, (("a", "b", 1),))]
+[True, False, 4, 5]
+""",
+    "moves": r"""
+>>> from nearandfar.moves import amounts, best_places, cost, gather_cost, heights, nearest, parted_cost, plan
+>>> [cost(lane, (2, 0, 0, 1), (0, 1, 1, 1)), plan(lane, (2, 0, 0, 1), (0, 1, 1, 1)), cost(square, (1, 0, 1, 0), (0, 1, 0, 1)), amounts(square, (1, 0, 1, 0), (0, 1, 0, 1), "a", "b"), cost(loose, (1, 0, 0), (0, 1, 0)), plan(lane, (1, 0, 0, 0), (1, 0, 0, 0))]
+[4, (('a', 'b', 1), ('a', 'c', 1)), 2, (0, 1), 5, ()]
+>>> [best_places(lane, (1, 1, 1, 1)), gather_cost(lane, (1, 1, 1, 1)), nearest(lane, (1, 0, 0, 0), ((0, 0, 0, 1), (0, 1, 0, 0), (2, 0, 0, 0))), parted_cost(square, (("bc", (1, 1)), ("cd", (1, 1))), (2, 0, 0, 0), (0, 0, 2, 0)), cost(square, (1, 0, 1, 0), (0, 1, 0, 1))]
+['bc', 8, (1,), (4, 1), 2]
+>>> cost(lane, (1, 0, 0, 0), (0, 0, 0, 2))
+raises Unlike(given=-1)
+""",
 }
 
 
@@ -134,4 +165,4 @@ class TestExamples(unittest.TestCase):
         self.assertEqual(SHOWN, shown)
 
 
-SHOWN = 23
+SHOWN = 32

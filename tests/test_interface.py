@@ -41,6 +41,23 @@ FUNCTIONS = {
         "level(table, pair)", "clocked(table)", "is_clock(table)", "bad_three(table)", "levels(table)",
         "groups(table, number)", "clusters(table)", "clock_pieces(table)",
     ),
+    "spanning": (
+        "least_sum(table)", "count_least_trees(table)", "least_trees(table)", "least_tree(table)", "standing(table, pair)",
+        "greatest_kept(table, pair)",
+    ),
+    "crowds": (
+        "crowd(table)", "bar(table)", "is_crowd(table, value)", "is_bar(table, value)", "weights(table, parting)",
+        "sure_partings(table)", "lone_crowd(table)", "least_raise(table)", "raise_bar(table)", "crowd_table(things, marks)",
+    ),
+    "piles": (
+        "is_pile(table, value)", "is_plan(table, first, second, value)", "are_heights(table, value)", "plan_cost(table, plan)",
+        "after(table, pile, plan)", "gain(table, heights, first, second)",
+    ),
+    "moves": (
+        "cost(table, first, second)", "plan(table, first, second)", "heights(table, first, second)",
+        "amounts(table, first, second, thing, other)", "best_places(table, pile)", "gather_cost(table, pile)",
+        "nearest(table, pile, piles)", "parted_cost(table, marks, first, second)",
+    ),
 }
 CLASSES = {
     ("tables", "Table"): (
