@@ -33,8 +33,7 @@ def cheapest(things, costs, first, second):
     frame = feasible_frame(columns, [abs(left[thing]) for thing in told])
     frame = best_frame(frame, [costs[start + end] for start, end in goings], len(goings))
     numbers = [number_in(frame, at)[0] for at in range(len(goings))]
-    rows = [(start, end, amount) for (start, end), amount in zip(goings, numbers) if amount > 0]
-    return tuple(sorted(rows))
+    return tuple([(start, end, amount) for (start, end), amount in zip(goings, numbers) if amount > 0])
 
 
 def cost(table, first, second):

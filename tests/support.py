@@ -245,11 +245,12 @@ def wrong_parts(good, most, wrong_lots=("a", "ab", "f", "", "dc", "abcde", ("b",
     """Triples for expect_in_order of what is no tuple of pairs (PARTING, NUMBER) for abcde; good is one, from b on."""
     elements = odd_values() + [(lot, 1) for lot in wrong_lots] + [
         good[0], (), ("b",), ("b", 1, 1), ["b", 1], ("b", "1"), ("b", 0), ("b", -1), ("b", most + 1), ("b", True), ("b", None),
-        ("b", (1,)), ("cd", 0), ("cd", True), ("cd", most + 1), ["cd", 1], ("cd",), ("cd", 1, 1), "cd",
+        ("b", (1,)), ("cd", 0), ("cd", True), ("cd", most + 1), ["cd", 1], ("cd",), ("cd", 1, 1), "cd", (Likeable(), 1), (Touchy(), 1),
+        ("cd", Likeable()), ("cd", Touchy()),
     ]
     whole = [value for value in odd_values() if not isinstance(value, tuple)] + [list(good), {good[0]: 1}, good[0][0]]
     rows = [(value, InvalidParts, {"index": None}) for value in whole]
-    rows += [(good[0], InvalidParts, {"index": 0})]
+    rows += [(good[0], InvalidParts, {"index": 0}), (((good[0], ("d", 2), ("c", 2))), InvalidParts, {"index": 2})]
     rows += [((good[0], element, "z"), InvalidParts, {"index": 1}) for element in elements]
     rows += [((element, good[0]), InvalidParts, {"index": 0}) for element in elements if element is not good[0]]
     return rows

@@ -55,7 +55,7 @@ def cases(seed, count, total):
     """Tables with two small piles each."""
     chance = random.Random(seed)
     tables = [LANE, FORK, SQUARE, KNOT, CLOCK, LOOSE, TWIN] + random_tables(seed, (2, 3, 4, 5, 6), 9, 3)
-    tables += random_tables(seed + 1, (4, 5), 2, 4) + [make("abcd", lambda x, y: 0), ring_table("abcdef", (1,) * 6)]
+    tables += random_tables(seed + 1, (4, 5, 6), 2, 6) + [make("abcd", lambda x, y: 0), ring_table("abcdef", (1,) * 6)]
     for turn in range(count):
         table = tables[turn % len(tables)]
         yield table, *random_piles(chance, len(table), chance.randint(0, total))
@@ -82,7 +82,7 @@ class TestPlans(unittest.TestCase):
             self.assertEqual(least, cost(table, second, first))
 
     def test_amounts(self):
-        for table, first, second in cases(83, 120, 5):
+        for table, first, second in cases(83, 300, 5):
             far = shortest(table)
             plans = all_plans(table.things, first, second)
             costs = [sum(amount * far(*going) for going, amount in row.items()) for row in plans]
