@@ -205,8 +205,20 @@ def expect_in_order(test, call, right, wrong):
                 if wrong.get(later):
                     spoilt[later] = wrong[later][0][0]
             for arguments in (told, spoilt):
+                copies = {name: copied(passed) for name, passed in arguments.items()}
                 expect(test, error, attributes, call, *arguments.values())
                 expect(test, error, attributes, call, **arguments)
+                test.assertTrue(all(is_like(arguments[name], copies[name]) for name in copies))
+
+
+def copied(value):
+    """A copy of a list, a dict or a set, anything else itself."""
+    return value.copy() if isinstance(value, (list, dict, set)) else value
+
+
+def is_like(value, copy):
+    """Whether a value is as it was when it was copied; what is no list, dict or set cannot change."""
+    return value is copy or isinstance(value, (list, dict, set)) and value == copy
 
 
 def given(error, values):
