@@ -6,7 +6,7 @@ import unittest
 from nearandfar.errors import (
     Halves, InvalidParting, InvalidParts, InvalidThings, NoTree, NotATable, TooMany, UnknownThing,
 )
-from nearandfar.tables import Table, times
+from nearandfar.tables import Table
 from nearandfar.trees import (
     firm, firmness, from_pieces, is_tree, meeting, odd_four, own, path, pieces, places, tree_length,
 )
