@@ -43,6 +43,20 @@ def sum_of(fractions):
     return total
 
 
+def difference(one, other):
+    """Return one fraction less another one, as a fraction."""
+    return sum_of([one, (-other[0], other[1])])
+
+
+def greatest_of(fractions):
+    """Return the greatest of some fractions."""
+    greatest = fractions[0]
+    for top, bottom in fractions:
+        if top * greatest[1] > greatest[0] * bottom:
+            greatest = (top, bottom)
+    return greatest
+
+
 def is_lot(value, letters):
     """Tell whether any value is an ascending string, perhaps empty, of some of these ascending letters."""
     return isinstance(value, str) and value == "".join([letter for letter in letters if letter in value])
@@ -173,17 +187,20 @@ def least_lengths(places, steps):
     return least
 
 
-def read_rows(text):
-    """Return the first line of a text, and the tuple of its rows as pairs (WORD, NUMBER)."""
+def read_rows(text, blank):
+    """Return the first line of a text, and the tuple of its rows as pairs (WORD, NUMBER).
+
+    blank is a sign that stands for None in the place of a number; with None there is no such sign.
+    """
     if not isinstance(text, str):
         raise InvalidText(text)
     head, *lines = text.split("\n")
     rows = []
     for line in lines:
         word, _, digits = line.partition(" ")
-        if not is_written_number(digits):
+        if digits != blank and not is_written_number(digits):
             raise InvalidText(text)
-        rows.append((word, int(digits)))
+        rows.append((word, None if digits == blank else int(digits)))
     return head, tuple(rows)
 
 

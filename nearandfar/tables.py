@@ -34,7 +34,7 @@ class Table:
 
     def __init__(self, things, distances):
         check_things(things)
-        check_distances(things, distances)
+        check_distances(things, distances, is_distance)
         self._things = things
         self._distances = distances
         self._lengths = both_ways(things, distances)
@@ -42,7 +42,7 @@ class Table:
     @classmethod
     def told(cls, text):
         """Return the table with this text."""
-        things, distances = read_rows(text)
+        things, distances = read_rows(text, None)
         try:
             return cls(things, distances)
         except WrongValue:
@@ -90,8 +90,7 @@ class Table:
 
     def grown(self, letter, row):
         """Return the table with a thing more that has the distances of the row from the others."""
-        if not is_letter(letter, LETTERS) or letter in self._things:
-            raise InvalidThing(letter)
+        check_letter(self._things, letter)
         check_row(self._things, row)
         if len(self._things) == MOST_THINGS:
             raise TooMany(MOST_THINGS + 1)
@@ -124,20 +123,27 @@ def is_distance(value):
     return is_integer_within(value, 0, MOST_DISTANCE)
 
 
-def is_distance_of(value, pair):
-    """Tell whether any value is a pair of this PAIR and a distance."""
-    if not isinstance(value, tuple) or len(value) != 2:
-        return False
-    return isinstance(value[0], str) and value[0] == pair and is_distance(value[1])
+def check_letter(things, letter):
+    """Raise InvalidThing for what is no letter for a thing beside these."""
+    if not is_letter(letter, LETTERS) or letter in things:
+        raise InvalidThing(letter)
 
 
-def check_distances(things, distances):
-    """Raise InvalidDistances for what is no tuple of distances for all pairs of these things."""
+def is_entry(value, pair):
+    """Tell whether any value is a pair of this PAIR and something else."""
+    return isinstance(value, tuple) and len(value) == 2 and isinstance(value[0], str) and value[0] == pair
+
+
+def check_distances(things, distances, fits):
+    """Raise InvalidDistances for what is no tuple of pairs (PAIR, DISTANCE) for all pairs of these things.
+
+    fits tells of any value whether it may stand as DISTANCE.
+    """
     if not isinstance(distances, tuple):
         raise InvalidDistances(None)
     pairs = pairs_of(things)
     for index, entry in enumerate(distances):
-        if index == len(pairs) or not is_distance_of(entry, pairs[index]):
+        if index == len(pairs) or not is_entry(entry, pairs[index]) or not fits(entry[1]):
             raise InvalidDistances(index)
     if len(distances) < len(pairs):
         raise InvalidDistances(len(distances))

@@ -47,7 +47,7 @@ class Web:
     @classmethod
     def told(cls, text):
         """Return the web with this text."""
-        things, ties = read_rows(text)
+        things, ties = read_rows(text, None)
         try:
             return cls(things, ties)
         except (WrongValue, NotPossible):

@@ -307,4 +307,4 @@ def uses_of_set(assignment):
                 yield node.lineno, f"L24 set {name}"
 
 
-OWN_METHODS = {"far", "changed", "without", "grown", "renamed", "table", "told"}
+OWN_METHODS = {"far", "changed", "without", "grown", "renamed", "table", "told", "told_more"}

@@ -121,6 +121,34 @@ raises InvalidNumber(given=1)
 >>> cost(lane, (1, 0, 0, 0), (0, 0, 0, 2))
 raises Unlike(given=-1)
 """,
+    "caps": r"""
+>>> from nearandfar.caps import cap_of, corners, gap, is_cap, is_corner, is_roof, lowered, mates, middle_cap, radius, under
+>>> ones = ((1, 1),) * 4
+>>> [is_cap(square, ones), is_corner(square, ones), mates(square, ones, "a"), gap(square, cap_of(square, "a"), cap_of(square, "c")), corners(square)[:2], len(corners(square)), len(corners(fork)), radius(clock), middle_cap(fork)]
+[True, False, 'c', (2, 1), (((0, 1), (1, 1), (2, 1), (1, 1)), ((1, 1), (0, 1), (1, 1), (2, 1))), 4, 8, (3, 1), ((3, 1), (4, 1), (3, 1), (2, 1), (4, 1))]
+>>> [is_roof(square, ((2, 1),) * 4), lowered(square, ((2, 1),) * 4), gap(square, ones, cap_of(square, "b")), under(square, "z", ones).distances[-1], is_cap(square, ((1, 2),) * 4), lowered(twin, ((4, 1),) * 3)]
+[True, ((0, 1), (1, 1), (2, 1), (1, 1)), (1, 1), ('dz', 1), False, ((0, 1), (0, 1), (4, 1))]
+""",
+    "exchanges": r"""
+>>> from nearandfar.exchanges import are_alike, behind, classes, exchanges, form, leaving, pair_classes, taken_back, told_by
+>>> [exchanges(clock), len(exchanges(square)), len(exchanges(knot)), exchanges(lane), classes(knot), classes(square)]
+[('abcd', 'abdc', 'bacd', 'badc'), 8, 12, ('abcd',), ('ab', 'cde'), ('abcd',)]
+>>> [behind(clock, "abdc", "bacd"), taken_back(square, "bcda"), leaving(clock, "a"), pair_classes(square), form(lane)]
+['badc', 'dabc', ('abcd', 'abdc'), (('ab', 'ad', 'bc', 'cd'), ('ac', 'bd')), (1, 2, 5, 3, 6, 3)]
+>>> [are_alike(lane, clock), told_by(lane, lane), told_by(lane, square)]
+[False, 'abcd', None]
+""",
+    "hidden": r"""
+>>> from nearandfar.hidden import fills, forced, greatest_filling, known_way, lead, settling, span, trouble
+>>> from nearandfar.sheets import Sheet
+>>> part = Sheet("abcd", (("ab", 1), ("ac", 3), ("ad", None), ("bc", 2), ("bd", None), ("cd", 3)))
+>>> [part.unknown, span(part, "ad"), span(part, "bd"), span(part, "ab"), forced(part), greatest_filling(part) == lane, fills(part, lane), fills(part, square), known_way(part, "bd")]
+[('ad', 'bd'), (0, 6), (1, 5), (1, 1), (), True, True, False, 'bcd']
+>>> [lead(part, "ad", "bd"), lead(part, "ad", "ab"), settling(part, lane), forced(part.told_more("ad", 6)), trouble(part), trouble(Sheet.told("abc\nab 9\nac 2\nbc 3")), span(Sheet.told("abc\nab 4\nac ?\nbc ?"), "ac")]
+[(-1, 1), (-1, 5), (('ad',),), ('bd',), None, ('ab', 'acb'), (0, 1000000)]
+>>> span(Sheet.told("abc\nab 9\nac 2\nbc 3"), "ab")
+raises Torn(given=('ab', 'acb'))
+""",
 }
 
 
@@ -165,4 +193,4 @@ class TestExamples(unittest.TestCase):
         self.assertEqual(SHOWN, shown)
 
 
-SHOWN = 32
+SHOWN = 40

@@ -58,6 +58,20 @@ FUNCTIONS = {
         "amounts(table, first, second, thing, other)", "best_places(table, pile)", "gather_cost(table, pile)",
         "nearest(table, pile, piles)", "parted_cost(table, marks, first, second)",
     ),
+    "caps": (
+        "is_roof(table, lifts)", "is_cap(table, lifts)", "lowered(table, lifts)", "cap_of(table, thing)",
+        "mates(table, lifts, thing)", "gap(table, lifts, other_lifts)", "is_corner(table, lifts)", "corners(table)",
+        "radius(table)", "middle_cap(table)", "under(table, letter, lifts)",
+    ),
+    "exchanges": (
+        "is_exchange(table, renaming)", "exchanges(table)", "behind(table, renaming, later)", "taken_back(table, renaming)",
+        "classes(table)", "pair_classes(table)", "leaving(table, thing)", "form(table)", "are_alike(table, other_table)",
+        "told_by(table, other_table)",
+    ),
+    "hidden": (
+        "trouble(sheet)", "fills(sheet, table)", "span(sheet, pair)", "forced(sheet)", "greatest_filling(sheet)",
+        "filling_with(sheet, pair, distance)", "lead(sheet, pair, other)", "known_way(sheet, pair)", "settling(sheet, table)",
+    ),
 }
 CLASSES = {
     ("tables", "Table"): (
@@ -67,8 +81,15 @@ CLASSES = {
     ("webs", "Web"): (
         "__init__(self, things, ties)", "told(cls, text)", "__str__(self)", "__len__(self)", "table(self)", "without(self, tie)",
     ),
+    ("sheets", "Sheet"): (
+        "__init__(self, things, distances)", "told(cls, text)", "__str__(self)", "__len__(self)", "told_more(self, pair, distance)",
+    ),
 }
-PROPERTIES = {("tables", "Table"): ("things", "distances"), ("webs", "Web"): ("things", "ties", "hidden")}
+PROPERTIES = {
+    ("tables", "Table"): ("things", "distances"),
+    ("webs", "Web"): ("things", "ties", "hidden"),
+    ("sheets", "Sheet"): ("things", "distances", "unknown", "text"),
+}
 
 
 def home(module):
@@ -89,7 +110,7 @@ class TestInterface(unittest.TestCase):
             self.assertEqual(f"nearandfar.{module}", kind.__module__)
             for row in rows:
                 method = vars(kind)[row.split("(")[0]]
-                self.assertIs(row.startswith("told"), isinstance(method, classmethod))
+                self.assertIs(row.startswith("told("), isinstance(method, classmethod))
                 method = getattr(method, "__func__", method)
                 self.assertEqual(row, method.__name__ + str(inspect.signature(method)))
             for each in PROPERTIES[module, name]:

@@ -10,7 +10,7 @@ FOLDER = pathlib.Path(__file__).resolve().parent.parent / PACKAGE
 # The modules of the interface, in the order of the document: each needs just those ahead of it, and basics.
 LISTED = [
     "limits", "errors", "tables", "ways", "webs", "needed", "lines", "trees", "partings", "rests", "rounds", "trips", "clocks",
-    "spanning", "crowds", "piles", "moves",
+    "spanning", "crowds", "piles", "moves", "caps", "exchanges", "sheets", "hidden",
 ]
 # Rows of which each one is against a rule, as a whole file.
 BAD = """import os
