@@ -22,7 +22,7 @@ any all divmod ValueError LookupError ArithmeticError True False None""".split()
 METHODS = set("""append clear copy count endswith extend find get index insert isalnum isalpha isdigit islower isspace isupper
 items join keys ljust lower lstrip partition pop remove replace reverse rfind rjust rpartition rsplit rstrip setdefault split
 splitlines startswith strip update upper values zfill bit_length add discard""".split())
-DUNDERS = set("""__init__ __eq__ __repr__ __str__ __len__ __enter__ __exit__ __lt__ __le__ __gt__ __ge__ __ne__""".split())
+DUNDERS = set("""__init__ __eq__ __repr__ __str__ __len__ __enter__ __exit__ __lt__ __le__ __gt__ __ge__ __ne__ __bool__""".split())
 NOWHERE = set("register mro elements open input law version_info with_traceback add_note".split())
 NO_WORDS = set("""type typing typing_extensions enum Enum IntEnum StrEnum Flag IntFlag Generic Protocol ABC ABCMeta namedtuple
 NamedTuple TypedDict TYPE_CHECKING abstractmethod""".split())
@@ -70,13 +70,22 @@ def faults_of_lines(name, text):
             yield f"{name}:{token.start[0]}: L27 string {token.string}"
 
 
-def is_plain(node):
-    """Whether an expression at module level is a plain value."""
-    if isinstance(node, (ast.Tuple, ast.List)):
-        return all(is_plain(item) for item in node.elts)
+def is_plain(node, above):
+    """Whether an expression at module level is a plain value, or one over functions that are defined above."""
+    if isinstance(node, ast.Name):
+        return node.id in above
+    if isinstance(node, (ast.Dict, ast.List)):
+        items = node.elts if isinstance(node, ast.List) else node.keys + node.values
+        return all(is_plain(item, above) and not has_within(item, (ast.Dict, ast.List)) for item in items)
+    if isinstance(node, ast.Tuple):
+        return all(is_plain(item, above) and not has_within(item, (ast.Dict, ast.List)) for item in node.elts)
     if isinstance(node, ast.UnaryOp):
-        return isinstance(node.op, ast.USub) and is_plain(node.operand)
+        return isinstance(node.op, ast.USub) and is_plain(node.operand, ())
     return isinstance(node, ast.Constant) and not isinstance(node.value, (float, complex))
+
+
+def has_within(node, kinds):
+    return any(isinstance(part, kinds) for part in ast.walk(node))
 
 
 def is_docstring(node):
@@ -84,9 +93,12 @@ def is_docstring(node):
 
 
 def module_level(tree):
+    above = set()
     for node in tree.body:
+        if isinstance(node, ast.FunctionDef):
+            above.add(node.name)
         if isinstance(node, ast.Assign):
-            if len(node.targets) != 1 or not isinstance(node.targets[0], ast.Name) or not is_plain(node.value):
+            if len(node.targets) != 1 or not isinstance(node.targets[0], ast.Name) or not is_plain(node.value, above):
                 yield node.lineno, "L3 assignment at module level"
         elif not is_docstring(node) and not isinstance(node, (ast.ImportFrom, ast.FunctionDef, ast.ClassDef)):
             yield node.lineno, "L3 statement at module level"
@@ -196,10 +208,26 @@ def dunder_rows(tree):
                 called = inner.value.func if isinstance(inner.value, ast.Call) else None
                 if not isinstance(called, ast.Name) or called.id not in wanted:
                     yield inner.lineno, f"L28 return of {node.name}"
-        if node.name != "__init__":
+        if node.name == "__exit__":
+            yield from rows_of_exit(node)
+        if node.name not in ("__init__", "__enter__", "__exit__"):
             for inner in ast.walk(node):
                 if isinstance(inner, (ast.Assign, ast.AugAssign, ast.Delete)):
                     yield inner.lineno, f"L28 {node.name} changes something"
+
+
+def rows_of_exit(node):
+    """What is not allowed in __exit__: all but names and attributes given to attributes, and asking whether kind is None."""
+    inner = [part for row in node.body for part in ast.walk(row) if not is_docstring(row)]
+    for part in inner:
+        if isinstance(part, ast.stmt) and not isinstance(part, (ast.If, ast.Assign, ast.Pass)):
+            yield part.lineno, "L6 row of __exit__"
+        if isinstance(part, ast.Assign) and not isinstance(part.value, (ast.Name, ast.Attribute)):
+            yield part.lineno, "L6 assignment in __exit__"
+        if isinstance(part, ast.If) and ast.unparse(part.test) not in ("kind is None", "kind is not None"):
+            yield part.lineno, "L6 test in __exit__"
+        if isinstance(part, ast.Name) and part.id in ("value", "trace"):
+            yield part.lineno, "L6 what __exit__ reads"
 
 
 def expressions(tree):
@@ -307,4 +335,5 @@ def uses_of_set(assignment):
                 yield node.lineno, f"L24 set {name}"
 
 
-OWN_METHODS = {"far", "changed", "without", "grown", "renamed", "table", "told", "told_more"}
+OWN_METHODS = {"far", "changed", "without", "grown", "renamed", "table", "told", "told_more", "put", "take", "change",
+    "close", "strip", "cover", "undo", "trial", "drop", "promise", "lift"}

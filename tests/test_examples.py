@@ -149,6 +149,42 @@ raises Unlike(given=-1)
 >>> span(Sheet.told("abc\nab 9\nac 2\nbc 3"), "ab")
 raises Torn(given=('ab', 'acb'))
 """,
+    "boards": r"""
+>>> from nearandfar.boards import Board
+>>> board = Board(loose)
+>>> board.close()
+>>> board.put("d", (1, 1, 4))
+>>> [is_right(board.now), board.changes, board.now.distances[0], board.now.far("d", "c")]
+[False, 2, ('ab', 5), 4]
+>>> [board.undo(), board.undo(), board.now == loose, board.changes]
+[None, None, True, 0]
+""",
+    "desks": r"""
+>>> from nearandfar.desks import Desk, played
+>>> desk = Desk()
+>>> desk.put("yard", fork)
+>>> desk.promise(("yard", ("tree",)))
+>>> [desk.names, desk.changes, desk.log[1], played(desk.log).named("yard") == fork]
+[('yard',), 2, ('promise', ('yard', ('tree',))), True]
+>>> desk.put("yard", square)
+raises Broken(index=0)
+""",
+    "certificates": r"""
+>>> from nearandfar.certificates import certify_cap, certify_crowd, certify_level, certify_line, certify_right, certify_span, certify_tree, certify_trip, certify_trips
+>>> from nearandfar.checker import accepts
+>>> [certify_right(loose)[0][0], certify_line(lane)[0][0], certify_line(square)[0][0], certify_tree(square)[1], certify_tree(lane)[1], certify_span(lane)[0][2], certify_cap(square, ones)[1], certify_level(lane, "ad")[0]]
+['long', 'line', 'no line', 'abcd', (('bcd', 2), ('cd', 4), ('d', 6)), 6, 'cdab', ('level', 'abcd\nab 1\nac 3\nad 6\nbc 2\nbd 5\ncd 3', 'ad', 3)]
+>>> [accepts(*certify_crowd(knot)), accepts(("tree", "ab\nab 3"), (("b", 6),)), accepts(("tree", "ab\nab 3"), (("b", 3),)), accepts(("cost", "ab\nab 3", (2, 0), (0, 2), 6), ((("a", "b", 2),), (3, 0))), accepts(*certify_trip(square)), accepts(*certify_trips(knot))]
+[True, True, False, True, True, True]
+""",
+    "console": r"""
+>>> from nearandfar.console import Console
+>>> console = Console(lane)
+>>> [console.say("right"), console.say("needed"), console.say("posts"), console.say("pieces"), console.say("trips"), console.say("cost 2,0,0,1 0,1,1,1"), console.say("radius"), console.say("between a d"), console.say("change ad 9"), console.say("right"), console.say("close"), console.say("far a d"), console.say("undo"), console.say("line")]
+['yes', 'ab bc cd', '0 1 3 6', 'bcd:2 cd:4 d:6', 'abcd abdc', '4', '3/1', 'b c', 'ok', 'no', 'ok', '6', 'ok', 'no']
+>>> console.say("take z")
+raises UnknownThing(given='z')
+""",
 }
 
 
@@ -165,9 +201,10 @@ def answer(row, names):
         exec(row, names)
         return None
     try:
-        return repr(eval(compiled, names))
+        told = eval(compiled, names)
     except Exception as error:
         return told_error(error)
+    return None if told is None else repr(told)
 
 
 def rows_of(text):
@@ -193,4 +230,4 @@ class TestExamples(unittest.TestCase):
         self.assertEqual(SHOWN, shown)
 
 
-SHOWN = 40
+SHOWN = 48

@@ -72,6 +72,15 @@ FUNCTIONS = {
         "trouble(sheet)", "fills(sheet, table)", "span(sheet, pair)", "forced(sheet)", "greatest_filling(sheet)",
         "filling_with(sheet, pair, distance)", "lead(sheet, pair, other)", "known_way(sheet, pair)", "settling(sheet, table)",
     ),
+    "desks": ("played(log)",),
+    "checker": ("accepts(claim, paper)",),
+    "certificates": (
+        "certify_right(table)", "certify_closed(table)", "certify_web(web)", "certify_needed(table)", "certify_line(table)",
+        "certify_tree(table)", "certify_sum(table)", "certify_strength(table, parting)", "certify_round(table)",
+        "certify_trip(table)", "certify_trips(table)", "certify_level(table, pair)", "certify_span(table)", "certify_crowd(table)",
+        "certify_cost(table, first, second)", "certify_cap(table, lifts)", "certify_radius(table)",
+        "certify_alike(table, other_table)", "certify_sheet(sheet, pair)",
+    ),
 }
 CLASSES = {
     ("tables", "Table"): (
@@ -84,11 +93,23 @@ CLASSES = {
     ("sheets", "Sheet"): (
         "__init__(self, things, distances)", "told(cls, text)", "__str__(self)", "__len__(self)", "told_more(self, pair, distance)",
     ),
+    ("boards", "Board"): (
+        "__init__(self, table)", "put(self, letter, row)", "take(self, thing)", "change(self, pair, distance)", "close(self)",
+        "strip(self, parting, by)", "cover(self, letter, lifts)", "undo(self)", "trial(self)", "tried(self, action)",
+    ),
+    ("desks", "Desk"): (
+        "__init__(self)", "put(self, name, table)", "named(self, name)", "drop(self, name)", "promise(self, wish)",
+        "lift(self, index)", "undo(self)", "trial(self)", "tried(self, action)", "__len__(self)",
+    ),
+    ("console", "Console"): ("__init__(self, table)", "say(self, command)"),
 }
 PROPERTIES = {
     ("tables", "Table"): ("things", "distances"),
     ("webs", "Web"): ("things", "ties", "hidden"),
     ("sheets", "Sheet"): ("things", "distances", "unknown", "text"),
+    ("boards", "Board"): ("now", "changes"),
+    ("desks", "Desk"): ("names", "promises", "changes", "log"),
+    ("console", "Console"): ("board",),
 }
 
 

@@ -10,7 +10,8 @@ FOLDER = pathlib.Path(__file__).resolve().parent.parent / PACKAGE
 # The modules of the interface, in the order of the document: each needs just those ahead of it, and basics.
 LISTED = [
     "limits", "errors", "tables", "ways", "webs", "needed", "lines", "trees", "partings", "rests", "rounds", "trips", "clocks",
-    "spanning", "crowds", "piles", "moves", "caps", "exchanges", "sheets", "hidden",
+    "spanning", "crowds", "piles", "moves", "caps", "exchanges", "sheets", "hidden", "boards",
+    "desks", "checker", "certificates", "console",
 ]
 # Rows of which each one is against a rule, as a whole file.
 BAD = """import os
@@ -20,6 +21,9 @@ from .limits import MOST_THINGS
 from nearandfar.limits import MOST_THINGS as most
 from itertools import chain
 COUNT = len("ab")
+COUNT = {"a": later}
+COUNT = {"a": {"b": 1}}
+COUNT = ([1], 2)
 ONE, TWO = 1, 2
 print(3)
 def f(n): return n / 2
@@ -86,6 +90,10 @@ class TestLanguage(unittest.TestCase):
         long = "def f(n):\n" + "    n += 1\n" * 40 + "    return n\n"
         self.assertNotEqual([], faults("some.py", long))
         self.assertNotEqual([], faults("some.py", "# " + "x" * 120 + "\n"))
+        for row in ("return True", "self.rows = value", "self.rows = [1]", "if value is None:\n            pass", "self.shut()"):
+            held = f"class A:\n    def __exit__(self, kind, value, trace):\n        {row}\n"
+            self.assertNotEqual([], faults("some.py", held), row)
+        self.assertEqual([], faults("some.py", held.replace("self.shut()", "self.rows = self.old")))
         self.assertNotEqual([], faults("some.py", "\n" * 401))
         self.assertNotEqual([], faults("some.py", "def f(n):\n    try:\n        return n\n    except ValueError:\n        return 0\n"))
         self.assertEqual([], faults("some.py", '"""Fine."""\n\nCOUNT = 3\n\n\ndef grow(number):\n    return number + COUNT\n'))
