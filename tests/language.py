@@ -140,7 +140,7 @@ def bound(tree):
 def names(tree):
     taken = imported(tree) | {node.name for node in tree.body if isinstance(node, ast.ClassDef)}
     tops = [name for _, name, node in bound(tree) if node in tree.body] + sorted(imported(tree))
-    tops += [part.id for node in tree.body if isinstance(node, ast.Assign) for part in ast.walk(node) if isinstance(part, ast.Name)]
+    tops += [part.id for node in tree.body if isinstance(node, ast.Assign) for part in node.targets if isinstance(part, ast.Name)]
     for name in set(tops):
         if tops.count(name) > 1:
             yield 1, f"L15 {name} is bound twice"
