@@ -96,11 +96,13 @@ def certify_round(table):
 
 def certify_trip(table):
     """Return a claim, with a paper, that there is a trip of the shortest length."""
+    check_table(table)
     return ("trip", str(table), shortest_length(table)), shortest_trips(table)[0]
 
 
 def certify_trips(table):
     """Return a claim, with a paper, that no trip is shorter than the shortest one."""
+    check_table(table)
     claim = ("trips", str(table), shortest_length(table))
     orders = round_orders(table) if is_right(table) else ()
     return claim, run_numbers(table, orders[0]) if orders else ()
@@ -123,6 +125,7 @@ def longest_step(table, way):
 
 def certify_span(table):
     """Return a claim, with a paper, of what the distances of a least tree are together."""
+    check_table(table)
     return ("least tree", str(table), least_sum(table)), least_tree(table)
 
 
