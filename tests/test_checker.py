@@ -171,6 +171,9 @@ class TestEachClaim(unittest.TestCase):
         self.hold(False, ("closed", str(LOOSE), str(LOOSE)), ("ab", "ac", "bc"))
         self.hold(False, ("closed", str(LOOSE), "abd\nab 5\nad 2\nbd 3"), ("acb", "ac", "bc"))
         self.hold(False, ("closed", goal, "abc\nab 4\nac 2\nbc 3"), ("ab", "ac", "bc"))
+        # A right table and ways as long as its distances, but not shortest ones.
+        self.hold(True, ("closed", "ab\nab 1", "ab\nab 1"), ("ab",))
+        self.hold(False, ("closed", "ab\nab 1", "ab\nab 3"), ("abab",))
 
     def test_makes(self):
         web = "abcd\nab 1\nac 2\nad 1\nbc 1\ncd 1"
@@ -179,6 +182,7 @@ class TestEachClaim(unittest.TestCase):
         self.hold(True, ("makes", web, str(SQUARE)), ("ab", "ac") + roads[2:])
         self.hold(False, ("makes", web, str(SQUARE)), ("ab", "abdc") + roads[2:])
         self.hold(False, ("makes", web, str(SQUARE)), ("ab", "cda") + roads[2:])
+        self.hold(False, ("makes", web, str(SQUARE)), ("adcb",) + roads[1:])
         # The roads are as long as they should be, but shorter ones are there.
         self.hold(False, ("makes", web, str(SQUARE.changed("ab", 3))), ("adcb",) + roads[1:])
         star = "abc\nXa 1\nXb 2\nXc 3"
@@ -199,6 +203,9 @@ class TestEachClaim(unittest.TestCase):
         self.hold(False, ("needed", "abc\nab 9\nac 2\nbc 3", ("ab", "ac", "bc")), ())
         for wrong in (Likeable(), (Likeable(),) * 3, ("ab", "bc", Likeable()), (Touchy(),) * 3, Touchy()):
             self.hold(False, ("needed", str(LANE), wrong), paper)
+        for value in (Likeable(), Touchy(), "ac", None):
+            for wrong in (value, (value, "b"), ("ac", value), (value,) * 2):
+                self.hold(False, ("needed", str(LANE), needed), (wrong,) + paper[1:])
 
     def test_lines(self):
         self.hold(True, ("line", str(LANE)), (0, 1, 3, 6))
@@ -232,6 +239,9 @@ class TestEachClaim(unittest.TestCase):
         self.hold(True, ("tree", "ab\nab 0"), ())
         self.hold(False, ("tree", "ab\nab 3"), ())
         self.hold(False, ("tree", "ab\nab 3"), (("a", 6),))
+        for word in ("tree", "sum"):
+            self.hold(False, (word, "ab\nab 3"), (("", 1), ("b", 6)))
+            self.hold(False, (word, "ab\nab 3"), (("b", 6), ("b", 6)))
         self.hold(True, ("no tree", str(SQUARE)), "abcd")
         self.hold(False, ("no tree", str(SQUARE)), "acbd")
         self.hold(True, ("no tree", str(LOOSE)), "abcc")
@@ -276,6 +286,9 @@ class TestEachClaim(unittest.TestCase):
         self.hold(False, ("trips", str(SQUARE), 4), (("bc", 1), ("cd", 2)))
         self.hold(False, ("trips", str(SQUARE), 4), (("bc", 3), ("cd", 1)))
         self.hold(False, ("trips", str(SQUARE), True), (("bc", 1),))
+        self.hold(False, ("trips", str(SQUARE), 5), (("", 1), ("bc", 2), ("cd", 2)))
+        self.hold(True, ("trips", str(SQUARE), 2), (("bc", 1), ("bc", 2)))
+        self.hold(False, ("trips", str(SQUARE), 4), (("abc", 4),))
 
     def test_levels_and_trees(self):
         self.hold(True, ("level", str(LANE), "ad", 3), ("abcd", "abc"))
@@ -292,6 +305,8 @@ class TestEachClaim(unittest.TestCase):
         self.hold(False, ("least tree", str(LANE), 7), ("ab", "ac", "cd"))
         # As long together as a least tree, but a ring.
         self.hold(False, ("least tree", str(make("abcd", lambda x, y: 1)), 3), ("ab", "ac", "bc"))
+        self.hold(False, ("least tree", str(make("abc", lambda x, y: 0)), 0), ("ab", "ac", "bc"))
+        self.hold(False, ("least tree", str(make("abc", lambda x, y: 0)), 0), ("ab",))
         # The ties of it are least ways each, but not together.
         table = "abc\nab 5\nac 1\nbc 5"
         self.hold(False, ("least tree", table, 10), ("ab", "bc"))

@@ -10,6 +10,7 @@ from nearandfar.errors import (
     Broken, InUse, InvalidLog, InvalidName, InvalidNumber, InvalidWish, NotATable, NothingToUndo, UnknownName,
 )
 from nearandfar.moves import cost
+from nearandfar.partings import clear, partings
 from nearandfar.sheets import Sheet
 from nearandfar.tables import Table
 from tests.support import (
@@ -47,6 +48,7 @@ TRUE = {
     ("needed", "ac"): "fork knot clock even",
     ("round", "abcd"): "lane square clock even",
     ("round", "abdc"): "lane clock even",
+    ("round", "abc"): "twin",
     ("round", "ab"): "two",
     ("round", "ba"): "",
     ("round", ""): "",
@@ -73,6 +75,8 @@ TRUE = {
     ("cost", (1, 0), (0, 1), 3): "two",
     ("cost", (1, 0), (0, 2), 3): "",
     ("cost", (61, 0), (0, 61), 10 ** 9): "",
+    ("cost", (-1, 2), (1, 0), 10 ** 9): "",
+    ("cost", (1, 0), (2, -1), 10 ** 9): "",
     ("cost", (), (), 3): "",
 }
 
@@ -80,7 +84,7 @@ TRUE = {
 def wrong_wishes():
     """Values that are no wish."""
     return odd_values() + [
-        "right", ("Right",), ("right", 1), ("right", ()), ["right"], (("right",),), ("tree", None), ("line", "a"), ("clock", 0), ("sum", 1),
+        "right", (), ((),), ("Right",), ("right", 1), ("right", ()), ["right"], (("right",),), ("tree", None), ("line", "a"), ("clock", 0), ("sum", 1),
         ("crowd", 6), ("star",), ("same", "a"), ("",), (b"right",), (None,), (Likeable(),), (Touchy(),), ("right", Touchy()),
         ("clear",), ("clear", ""), ("clear", "abcdefg"), ("clear", "ba"), ("clear", "aa"), ("clear", "A"), ("clear", "a "), ("clear", None),
         ("clear", ("b",)), ("clear", ["b"]), ("clear", "b", 1), ("clear", Likeable()), ("clear", Touchy()), ("clear", 1),
@@ -196,6 +200,18 @@ class TestWishes(unittest.TestCase):
                 self.assertIsNone(desk.promise(("a", wish + (number,))))
                 if number + step >= 0:
                     expect(self, Broken, {"index": desk.changes - 1}, desk.promise, ("a", wish + (number + step,)))
+
+    def test_clear_partings(self):
+        for table in random_tables(173, (2, 3, 4), 3, 6) + [make("abc", lambda x, y: 1), SQUARE, KNOT]:
+            desk = Desk()
+            desk.put("a", table)
+            lots = dict(clear(table))
+            for lot in partings(table):
+                if lot in lots:
+                    self.assertIsNone(desk.promise(("a", ("clear", lot))))
+                else:
+                    expect(self, Broken, {"index": len(desk.promises)}, desk.promise, ("a", ("clear", lot)))
+        self.assertIn(1, dict(clear(make("abc", lambda x, y: 1))).values())
 
     def test_wrong_wishes(self):
         desk = full_desk()
@@ -360,7 +376,7 @@ class TestLogs(unittest.TestCase):
             ("put", "a", SHEET), ("put", ["a"], str(LANE)), ("drop",), ("drop", "z"), ("drop", "a", "b"), ("drop", None), ("drop", ["a"]),
             ("promise",), ("promise", None), ("promise", ("a", ("line",)), 1), ("promise", ("z", ("line",))), ("promise", ("b", ("crowds",))),
             ("promise", "a", ("line",)), ("promise", ["a", ("line",)]), ("promise", ("b", ("line",))), ("lift",), ("lift", -1), ("lift", 9),
-            ("lift", True), ("lift", None), ("lift", 0, 0), ("undo",), ("named", "a"), ("", "a"), (Likeable(), "a"), (Touchy(), "a"),
+            ("lift", True), ("lift", None), ("lift", 0, 0), ("undo",), ("named", "a"), ("", "a"), (), ((), "a"), (Likeable(), "a"), (Touchy(), "a"),
             ("put", Touchy(), str(LANE)), ("put", "a", Touchy()), ("lift", Touchy()), ("drop", Likeable()), ("promise", Touchy()), (None, "a"),
         ]
         for element in wrong:
