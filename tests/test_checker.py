@@ -203,7 +203,7 @@ class TestEachClaim(unittest.TestCase):
         self.hold(False, ("needed", "abc\nab 9\nac 2\nbc 3", ("ab", "ac", "bc")), ())
         for wrong in (Likeable(), (Likeable(),) * 3, ("ab", "bc", Likeable()), (Touchy(),) * 3, Touchy()):
             self.hold(False, ("needed", str(LANE), wrong), paper)
-        for value in (Likeable(), Touchy(), "ac", None):
+        for value in (Likeable(), Touchy(), "ad", None):
             for wrong in (value, (value, "b"), ("ac", value), (value,) * 2):
                 self.hold(False, ("needed", str(LANE), needed), (wrong,) + paper[1:])
 
@@ -287,7 +287,7 @@ class TestEachClaim(unittest.TestCase):
         self.hold(False, ("trips", str(SQUARE), 4), (("bc", 3), ("cd", 1)))
         self.hold(False, ("trips", str(SQUARE), True), (("bc", 1),))
         self.hold(False, ("trips", str(SQUARE), 5), (("", 1), ("bc", 2), ("cd", 2)))
-        self.hold(True, ("trips", str(SQUARE), 2), (("bc", 1), ("bc", 2)))
+        self.hold(True, ("trips", str(LANE), 3), (("d", 1), ("d", 2)))
         self.hold(False, ("trips", str(SQUARE), 4), (("abc", 4),))
 
     def test_levels_and_trees(self):
