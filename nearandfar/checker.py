@@ -372,10 +372,10 @@ def accepts(claim, paper):
     if not isinstance(claim, tuple) or len(claim) == 0 or not isinstance(claim[0], str) or claim[0] not in CLAIMS:
         return False
     row = CLAIMS[claim[0]]
-    look, kinds = row[0], row[1:]
-    if len(claim) != len(kinds) + 1:
+    look = row[0]
+    if len(claim) != len(row):
         return False
-    told = [told_part(kind, value) for kind, value in zip(kinds, claim[1:])]
+    told = [told_part(kind, value) for kind, value in zip(row[1:], claim[1:])]
     return not any([part is None for part in told]) and look(told, paper)
 
 

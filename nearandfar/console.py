@@ -3,21 +3,21 @@
 from nearandfar.basics import LETTERS, is_written_number
 from nearandfar.boards import Board, Token
 from nearandfar.caps import radius
-from nearandfar.clocks import groups, is_clock, level, levels
+from nearandfar.clocks import groups, level, levels
 from nearandfar.crowds import crowd
+from nearandfar.desks import holds_alone
 from nearandfar.errors import InvalidCommand
 from nearandfar.exchanges import classes, exchanges
 from nearandfar.limits import LEAST_THINGS, MOST_THINGS
-from nearandfar.lines import is_line, posts
+from nearandfar.lines import posts
 from nearandfar.moves import best_places, cost
 from nearandfar.needed import needed_pairs
 from nearandfar.partings import clear, strength
-from nearandfar.rests import is_sum
 from nearandfar.rounds import round_orders
 from nearandfar.spanning import least_sum
-from nearandfar.trees import is_tree, pieces
+from nearandfar.trees import pieces
 from nearandfar.trips import shortest_trips
-from nearandfar.ways import between, is_right, least_way
+from nearandfar.ways import between, least_way
 
 # What stands behind the word of a command; a row goes to the end of the line.
 FORMS = {
@@ -144,17 +144,9 @@ def do_deed(board, word, told):
 
 def is_so(table, word):
     """Tell whether a table is of the kind that a word asks for."""
-    if word == "right":
-        return is_right(table)
-    if word == "tree":
-        return is_tree(table)
-    if word == "sum":
-        return is_sum(table)
-    if word == "line":
-        return is_line(table)
-    if word == "clock":
-        return is_clock(table)
-    return crowd(table) is not None
+    if word == "crowd":
+        return crowd(table) is not None
+    return holds_alone(table, word)
 
 
 def listed(table, word, told):

@@ -89,6 +89,15 @@ def beside(value, chance, spare):
                 yield value[:at] + (other,) + value[at + 1:]
 
 
+def replaced(value, other):
+    """Values that have another one in one place, at any depth, but in strings."""
+    yield other
+    if isinstance(value, tuple):
+        for at, part in enumerate(value):
+            for changed in replaced(part, other):
+                yield value[:at] + (changed,) + value[at + 1:]
+
+
 class TestAgainstPapersByHand(unittest.TestCase):
     def test_right_pairs(self):
         words = set()
@@ -426,6 +435,14 @@ class TestAnyValues(unittest.TestCase):
                     for at in range(len(paper)):
                         other = paper[:at] + (value,) + paper[at + 1:]
                         self.assertIs(not self.touchy(value) and accepted(claim, other), accepts(claim, other), (claim, value))
+
+    def test_values_at_any_depth(self):
+        for claim, paper in all_certificates():
+            for wrong in (Touchy(), Likeable(), None, [], {}, True, (Touchy(),), b"a"):
+                for other in replaced(claim, wrong):
+                    self.assertIs(False, accepts(other, paper), (claim, paper))
+                for other in replaced(paper, wrong):
+                    self.assertIs(False, accepts(claim, other), (claim, paper))
 
     def touchy(self, value):
         return isinstance(value, (Touchy, Likeable)) or isinstance(value, tuple) and any(self.touchy(part) for part in value)
